@@ -1,0 +1,1 @@
+"""Hurryprice: works that can be done sooner for a price."""
