@@ -6,6 +6,7 @@ from fractions import Fraction
 from hurryprice.errors import NoTime
 from hurryprice.offers import cut_at, is_offer, is_offered, least_with, price_of_time, smoothed
 from tests.asking import Asking, chance, frac, part, steps, straight, things_of_every_kind
+from tests.samples import random_offer
 
 FIVE = straight((10, 0), (8, 1), (6, 3), (5, 5), (0, 20))
 HALVES = straight(("7/2", "1/3"), ("5/2", "4/3"), ("1/2", "16/3"))
@@ -13,22 +14,6 @@ UNEVEN = steps((9, 1), (7, 10), (4, 11), (2, 30), (1, "61/2"))
 ONE = straight((3, 2))
 ONE_STEP = steps((3, 2))
 OFFERS = [FIVE, HALVES, UNEVEN, ONE, ONE_STEP, straight((0, 0)), steps((4, 0), (0, 9))]
-
-
-def random_offer(source, kind):
-    """An offer of one to five corners; a straight one by rates that rise."""
-    many = source.randint(1, 5)
-    time, price = Fraction(0), Fraction(source.randint(0, 9), source.randint(1, 4))
-    gaps = [Fraction(source.randint(1, 6), source.randint(1, 4)) for number in range(many - 1)]
-    rates = [Fraction(source.randint(1, 40), source.randint(1, 6)) for number in range(many - 1)]
-    if kind == "straight":
-        rates = sorted({rate + Fraction(at, 1000) for at, rate in enumerate(rates)})
-    time = sum(gaps, Fraction(source.randint(0, 3), 2))
-    corners = [(part(time), part(price))]
-    for gap, rate in zip(gaps, rates):
-        time, price = time - gap, price + gap * rate
-        corners.append((part(time), part(price)))
-    return (kind, corners)
 
 
 def random_offers(seed, kind, many):
