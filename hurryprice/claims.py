@@ -1,7 +1,8 @@
 """What papers claim and bar, and where they are tight."""
 
+from hurryprice.errors import NoPaper, Unbalanced
 from hurryprice.offers import least_with, price_of_time
-from hurryprice.papers import amounts_of
+from hurryprice.papers import amounts_of, rate_of
 from hurryprice.plans import end_of, hold_slack, wait_slack
 from hurryprice.ratios import NOUGHT, is_less, minus, plus, product, sum_of
 
@@ -25,10 +26,17 @@ def claims_of(net, paper):
     amounts = amounts_of(net, paper)
     offered = [offer for name, offer in net[0]]
     weight = weight_of(net, paper)
-    rate = sum_of([amount for (word, number), amount in paper if word == "end"])
     leasts = [least_with(offer, amount) for offer, amount in zip(offered, amounts)]
     quicks = [product(amount, offer[1][-1][0]) for offer, amount in zip(offered, amounts)]
-    return (plus(weight, sum_of(leasts)), rate, plus(weight, sum_of(quicks)))
+    return (plus(weight, sum_of(leasts)), rate_of(paper), plus(weight, sum_of(quicks)))
+
+
+def claims_if_paper(net, thing):
+    """What claims_of tells of a paper of the net; None of anything else."""
+    try:
+        return claims_of(net, thing)
+    except (NoPaper, Unbalanced):
+        return None
 
 
 def claimed(net, paper, whole):

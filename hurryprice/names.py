@@ -14,6 +14,11 @@ def is_tuple_of(thing, many):
     return isinstance(thing, tuple) and len(thing) == many
 
 
+def is_word(thing, word):
+    """Tells whether a thing is just this text."""
+    return isinstance(thing, str) and thing == word
+
+
 def common_part(one, other):
     """The greatest whole number that divides two whole numbers, 0 where both are 0."""
     one, other = abs(one), abs(other)

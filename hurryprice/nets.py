@@ -1,6 +1,6 @@
 """Nets: tuples (works, waits, holds, groups)."""
 
-from hurryprice.errors import NoNet
+from hurryprice.errors import NoNet, NotStraight
 from hurryprice.names import is_name, is_ratio, is_tuple_of, is_whole
 from hurryprice.offers import is_offer, smoothed
 
@@ -108,6 +108,12 @@ def look_at_net(thing):
 def is_straight(net):
     """Tells whether all offers of a net are straight."""
     return all([offer[0] == "straight" for name, offer in net[0]])
+
+
+def look_at_straight(net):
+    """Refuses a net that isn't straight."""
+    if not is_straight(net):
+        raise NotStraight("not all offers of this net are straight")
 
 
 def smoothed_net(net):

@@ -3,7 +3,9 @@
 from hurryprice.errors import NoPaper, Unbalanced
 from hurryprice.names import is_ratio, is_tuple_of
 from hurryprice.nets import is_number_below
-from hurryprice.ratios import NOUGHT, is_less, minus, plus
+from hurryprice.ratios import NOUGHT, is_less, minus, plus, sum_of
+
+ARC_WORDS = ("start", "end", "wait", "hold")
 
 
 def is_arc(net, thing):
@@ -73,6 +75,21 @@ def amounts_of(net, paper):
         if is_less(amount, NOUGHT) or amount != offs[work]:
             raise Unbalanced(work)
     return amounts
+
+
+def rate_of(paper):
+    """The amounts of all ends together."""
+    return sum_of([amount for (word, number), amount in paper if word == "end"])
+
+
+def place_of_arc(arc):
+    """By what arcs are put in order: starts, ends, waits, holds, by numbers."""
+    return (ARC_WORDS.index(arc[0]), arc[1])
+
+
+def in_order(amounts):
+    """The paper, in the order of its arcs, of a dict from arcs to amounts; those of (0, 1) are left out."""
+    return [(arc, amounts[arc]) for arc in sorted(amounts, key=place_of_arc) if amounts[arc] != NOUGHT]
 
 
 def look_at_paper(net, thing):

@@ -1,7 +1,8 @@
 """Plans: lists of one tuple (start, time) for each work of a net."""
 
-from hurryprice.offers import is_offered, price_of_time
-from hurryprice.ratios import NOUGHT, is_less, larger, minus, plus, product, sum_of
+from hurryprice.names import is_ratio, is_tuple_of
+from hurryprice.offers import is_from_nought, is_offered, price_of_time
+from hurryprice.ratios import NOUGHT, is_less, larger, minus, parted, plus, product, sum_of
 
 
 def end_of(step):
@@ -68,6 +69,18 @@ def first_broken(net, plan, whole):
     return broken
 
 
+def is_plan(net, thing):
+    """Tells whether a thing is a plan of the net, whatever it keeps."""
+    if not isinstance(thing, list) or len(thing) != len(net[0]):
+        return False
+    return all([is_tuple_of(step, 2) and is_ratio(step[0]) and is_from_nought(step[1]) for step in thing])
+
+
+def is_plan_within(net, thing, whole):
+    """Tells whether a thing is a plan of the net that is within the whole."""
+    return is_plan(net, thing) and first_broken(net, thing, whole) is None
+
+
 def price_of(net, plan):
     """The sum of the prices of a plan's times; NoTime where one isn't offered."""
     return sum_of([price_of_time(work[1], step[1]) for work, step in zip(net[0], plan)])
@@ -85,6 +98,11 @@ def whole_of(plan):
 def between(one, other, share):
     """The one and the share of by how much the other is more."""
     return plus(one, product(share, minus(other, one)))
+
+
+def share_between(one, other, at):
+    """By which share of the way from the one to the other one comes to what lies between."""
+    return parted(minus(at, one), minus(other, one))
 
 
 def mixed(one, other, share):

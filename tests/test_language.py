@@ -243,8 +243,9 @@ class TestLanguage(unittest.TestCase):
                         self.assertIsInstance(row.exc, ast.Call)
                         self.assertIsInstance(row.exc.func, ast.Name)
                 for handler in nodes_of(tree, ast.ExceptHandler):
-                    self.assertIsInstance(handler.type, ast.Name)
-                    self.assertFalse(hasattr(builtins, handler.type.id) and handler.type.id != "KeyError")
+                    for kind in getattr(handler.type, "elts", [handler.type]):
+                        self.assertIsInstance(kind, ast.Name)
+                        self.assertFalse(hasattr(builtins, kind.id) and kind.id != "KeyError")
 
 
 if __name__ == "__main__":
