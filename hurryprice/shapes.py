@@ -47,3 +47,17 @@ def price_at(shape, whole):
     if at == len(shape) - 1:
         return shape[at][1]
     return between(shape[at][1], shape[at + 1][1], share_between(shape[at][0], shape[at + 1][0], whole))
+
+
+def merged_wholes(one, other):
+    """The wholes of the bends of two shapes, rising, each once."""
+    wholes = []
+    left, right = [bend[0] for bend in one], [bend[0] for bend in other]
+    while len(left) > 0 or len(right) > 0:
+        if len(right) == 0 or (len(left) > 0 and is_less(left[0], right[0])):
+            whole = left.pop(0)
+        else:
+            whole = right.pop(0)
+        if len(wholes) == 0 or wholes[-1] != whole:
+            wholes.append(whole)
+    return wholes
