@@ -121,6 +121,22 @@ class TestStairsOfJoinedNets(Shapes):
             self.check(ROW, renamed(ROW), wait)
             self.check(FIXED, renamed(FIXED), wait)
 
+    def test_holds_at_the_very_moment(self):
+        # The quick times just keep them; a little sooner there is no plan, of any net that is joined or scaled so.
+        for holds in ([("by", 1, (7, 2))], [("till", 1, (5, 2))], [("till", 0, (0, 1)), ("from", 0, (0, 1))],
+                      [("from", 0, (3, 1)), ("by", 1, (13, 2))]):
+            just = (ROW[0], ROW[1], holds, [])
+            self.check(just, ALONE, Fraction(1, 2))
+            self.check(ALONE, just, 3)
+            kind, work, moment = holds[-1]
+            sooner = part(frac(moment) - MINUTE)
+            if kind == "from":
+                kind, work, sooner = "till", 0, part(-MINUTE)
+            none = (ROW[0], ROW[1], holds[:-1] + [(kind, work, sooner)], [])
+            for joined in (nets_beside(ALONE, none), nets_behind(none, ALONE, (1, 2)),
+                           net_scaled(none, (1, 3), (2, 5))):
+                self.assertEqual(stair_of(joined)[0], "none")
+
     def test_random_nets(self):
         source = chance(97)
         for number in range(60):
