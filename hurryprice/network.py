@@ -9,7 +9,7 @@ how far each place is from the root, by the ways that still have room, is a plan
 
 from hurryprice.names import common_part
 from hurryprice.offers import rate_between
-from hurryprice.ratios import NOUGHT, lowest, minus, plus, smaller
+from hurryprice.ratios import NOUGHT, minus, plus, smaller
 
 ONE = (1, 1)
 
@@ -34,6 +34,7 @@ class Network:
         self.places = self.sink + 1
         self.grain = grain_of(net)
         self.ways = []
+        self.spans = []
         self.carried = []
         self.add_ways_of_works(net)
         self.add_ways_of_waits(net)
@@ -47,37 +48,38 @@ class Network:
         """
         return one[0] * (self.grain // one[1]) * self.places
 
-    def short_of(self, length):
-        """The fraction of a length from which fewer steps were taken off than there are places."""
-        return lowest(-(-length // self.places), self.grain)
+    def units_of(self, length):
+        """How many units of the grain a length has from which fewer steps were taken off than there are places."""
+        return -(-length // self.places)
 
-    def add_way(self, tail, head, one, arc):
-        """Adds a way that carries any amount."""
-        self.ways.append((tail, head, self.long_of(one), None, arc))
+    def add_way(self, tail, head, span, room, arc):
+        """Adds a way that as yet carries nothing."""
+        self.ways.append((tail, head, self.long_of(span), room, arc))
+        self.spans.append(span)
         self.carried.append(NOUGHT)
 
     def add_ways_of_works(self, net):
         """Adds the ways to the starts, from the ends, and through the works by their quick times."""
         for work in range(self.many):
-            self.add_way(self.root, work, NOUGHT, ("start", work))
+            self.add_way(self.root, work, NOUGHT, None, ("start", work))
         for work in range(self.many):
-            self.add_way(self.many + work, self.sink, NOUGHT, ("end", work))
+            self.add_way(self.many + work, self.sink, NOUGHT, None, ("end", work))
         for work, (name, offer) in enumerate(net[0]):
-            self.add_way(work, self.many + work, offer[1][-1][0], None)
+            self.add_way(work, self.many + work, offer[1][-1][0], None, None)
 
     def add_ways_of_waits(self, net):
         """Adds the ways from ends to starts."""
         for at, (one, other, lag) in enumerate(net[1]):
-            self.add_way(self.many + one, other, lag, ("wait", at))
+            self.add_way(self.many + one, other, lag, None, ("wait", at))
 
     def add_ways_of_holds(self, net):
         """Adds the ways from the root and back to it."""
         for at, (kind, work, moment) in enumerate(net[2]):
             if kind == "from":
-                self.add_way(self.root, work, moment, ("hold", at))
+                self.add_way(self.root, work, moment, None, ("hold", at))
             else:
                 tail = work if kind == "till" else self.many + work
-                self.add_way(tail, self.root, minus(NOUGHT, moment), ("hold", at))
+                self.add_way(tail, self.root, minus(NOUGHT, moment), None, ("hold", at))
 
     def steps_left(self):
         """The steps that can be gone, as tuples (tail, head, length, number of the way, whether forth or back)."""
@@ -125,9 +127,10 @@ class Network:
             carried = self.carried[number]
             self.carried[number] = plus(carried, amount) if forth else minus(carried, amount)
 
-    def fill(self, tail, head, length, room):
+    def fill(self, tail, head, span, room):
         """Adds a way with a room, and lets go round through it what makes all longer."""
         left = room
+        length = self.long_of(span)
         while left != NOUGHT:
             far, came, moved = self.farthest(head)
             if far[tail] is None or far[tail] + length <= 0:
@@ -137,8 +140,8 @@ class Network:
             amount = left if most is None else smaller(left, most)
             self.push(path, amount)
             left = minus(left, amount)
-        self.ways.append((tail, head, length, room, None))
-        self.carried.append(minus(room, left))
+        self.add_way(tail, head, span, room, None)
+        self.carried[-1] = minus(room, left)
 
     def fill_works(self, net):
         """Adds the ways through the works by their longer times, each with the room up to the next rate."""
@@ -146,7 +149,7 @@ class Network:
             rate = NOUGHT
             for longer, quicker in zip(offer[1], offer[1][1:]):
                 steeper = rate_between(longer, quicker)
-                self.fill(work, self.many + work, self.long_of(longer[0]), minus(steeper, rate))
+                self.fill(work, self.many + work, longer[0], minus(steeper, rate))
                 rate = steeper
 
     def paper(self):
@@ -159,13 +162,29 @@ class Network:
         arcs = [self.ways[number][4] for tail, head, length, number, forth in path]
         return [(arc, ONE) for arc in arcs if arc is not None]
 
-    def plan(self, net, far):
-        """The plan whose starts, and ends where they are needed, are as far from the root as told."""
+    def moments(self, came):
+        """How far each place is from the root, as fractions, by the steps by which it was reached.
+
+        Summed up step by step: of the lengths, with the bottoms of the whole net, it takes long to make fractions.
+        """
+        told = {self.root: NOUGHT}
+        for place in range(self.places):
+            path = []
+            at = place
+            while at not in told:
+                path.append(came[at])
+                at = came[at][0]
+            for tail, head, length, number, forth in reversed(path):
+                span = self.spans[number]
+                told[head] = plus(told[tail], span) if forth else minus(told[tail], span)
+        return told
+
+    def plan(self, net, told):
+        """The plan whose starts, and ends where they are needed, are at these moments."""
         plan = []
         for work, (name, offer) in enumerate(net[0]):
-            start = self.short_of(far[work])
-            room = minus(self.short_of(far[self.many + work]), start)
-            plan.append((start, smaller(offer[1][0][0], room)))
+            room = minus(told[self.many + work], told[work])
+            plan.append((told[work], smaller(offer[1][0][0], room)))
         return plan
 
 

@@ -25,24 +25,32 @@ def lowest(top, bottom):
 
 def plus(one, other):
     """Both together."""
-    return lowest(one[0] * other[1] + other[0] * one[1], one[1] * other[1])
+    shared = common_part(one[1], other[1])
+    mine, theirs = one[1] // shared, other[1] // shared
+    top = one[0] * theirs + other[0] * mine
+    # Top and bottom can only share what the bottoms shared, and common parts of shorter numbers are sooner found.
+    rest = common_part(top, shared)
+    return (top // rest, mine * (other[1] // rest))
 
 
 def minus(one, other):
     """The one less the other."""
-    return lowest(one[0] * other[1] - other[0] * one[1], one[1] * other[1])
+    return plus(one, (-other[0], other[1]))
 
 
 def product(one, other):
     """The one times the other."""
-    return lowest(one[0] * other[0], one[1] * other[1])
+    # Within one fraction nothing is shared, so only across both of them.
+    mine, theirs = common_part(one[0], other[1]), common_part(other[0], one[1])
+    return ((one[0] // mine) * (other[0] // theirs), (one[1] // theirs) * (other[1] // mine))
 
 
 def parted(one, other):
     """The one parted by the other."""
-    if other[0] == 0:
+    top, bottom = other
+    if top == 0:
         raise NoNumber("nothing is parted by nought")
-    return lowest(one[0] * other[1], one[1] * other[0])
+    return product(one, (bottom, top) if top > 0 else (-bottom, -top))
 
 
 def is_less(one, other):

@@ -45,20 +45,25 @@ def keeps_stair_rules(net, stair):
     return rates[-1] == 0 and is_bar_at(net, bar, bends[0][0])
 
 
+def random_binds(source, many, low, most):
+    """Waits and holds of so many works that may or may not leave a plan; back they wait no less than low."""
+    waits, holds = [], []
+    for number in range(source.randint(0, 2 * many) if many > 1 else 0):
+        one, other = source.sample(range(many), 2)
+        least = low if one > other else -3
+        waits.append((one, other, part(Fraction(source.randint(least, 4), source.randint(1, 3)))))
+    for number in range(source.randint(0, most)):
+        kind = source.choice(["from", "till", "by"])
+        moment = source.randint(-2, 6) if kind == "from" else source.randint(2, 30)
+        holds.append((kind, source.randrange(many), part(Fraction(moment, source.randint(1, 2)))))
+    return waits, holds
+
+
 def random_net(source, most):
     """A straight net whose waits and holds may or may not leave a plan."""
     many = source.randint(1, most)
     works = [("abcdefghij"[at], random_offer(source, "straight")) for at in range(many)]
-    waits, holds = [], []
-    for number in range(source.randint(0, 2 * many) if many > 1 else 0):
-        one, other = source.sample(range(many), 2)
-        low = -20 if one > other else -3
-        waits.append((one, other, part(Fraction(source.randint(low, 4), source.randint(1, 3)))))
-    for number in range(source.randint(0, 4)):
-        kind = source.choice(["from", "till", "by"])
-        moment = source.randint(-2, 6) if kind == "from" else source.randint(2, 30)
-        holds.append((kind, source.randrange(many), part(Fraction(moment, source.randint(1, 2)))))
-    return (works, waits, holds, [])
+    return (works, *random_binds(source, many, -20, 4), [])
 
 
 def planned_net(source, most):
