@@ -91,19 +91,17 @@ def changed(net, change):
     return (copied_works(works), list(waits), list(holds), [list(group) for group in groups])
 
 
-def carried_plan(net, change, plan):
-    """What a plan has of each work of the changed net; a work more starts at (0, 1), with its long time."""
-    works = changed(net, change)[0]
+def plan_over(net, change, plan):
+    """What carried_plan tells, of what is known to be a change of the net."""
     carried = [plan[work] for work in staying(net, change)[0]]
     if change[0] == "work":
-        name, offer = works[-1]
+        name, offer = change[1]
         carried.append((NOUGHT, offer[1][0][0]))
     return carried
 
 
-def carried_paper(net, change, paper):
-    """The paper with its arcs' numbers in the changed net; None where an arc in it is gone."""
-    changed(net, change)
+def paper_over(net, change, paper):
+    """What carried_paper tells, of what is known to be a change of the net."""
     works, waits, holds = staying(net, change)
     numbers = {"start": works, "end": works, "wait": waits, "hold": holds}
     carried = []
@@ -112,3 +110,15 @@ def carried_paper(net, change, paper):
             return None
         carried.append(((word, numbers[word].index(number)), amount))
     return carried
+
+
+def carried_plan(net, change, plan):
+    """What a plan has of each work of the changed net; a work more starts at (0, 1), with its long time."""
+    changed(net, change)
+    return plan_over(net, change, plan)
+
+
+def carried_paper(net, change, paper):
+    """The paper with its arcs' numbers in the changed net; None where an arc in it is gone."""
+    changed(net, change)
+    return paper_over(net, change, paper)
